@@ -451,9 +451,15 @@ var calls = []struct {
 	call func(p *page.Page, c curs.Cursor, f curs.Frame) curs.Cursor
 	tell func(m *model)
 }{
-	{"Display(Rest)", func(p *page.Page, c curs.Cursor, f curs.Frame) curs.Cursor { return edit.Display(p, c, edit.Rest, false) }, func(m *model) { m.display(0, false) }},
-	{"Display(Begin)", func(p *page.Page, c curs.Cursor, f curs.Frame) curs.Cursor { return edit.Display(p, c, edit.Begin, true) }, func(m *model) { m.display(1, true) }},
-	{"Display(All)", func(p *page.Page, c curs.Cursor, f curs.Frame) curs.Cursor { return edit.Display(p, c, edit.All, false) }, func(m *model) { m.display(2, false) }},
+	{"Display(Rest)", func(p *page.Page, c curs.Cursor, f curs.Frame) curs.Cursor {
+		return edit.Display(p, c, edit.Rest, false)
+	}, func(m *model) { m.display(0, false) }},
+	{"Display(Begin)", func(p *page.Page, c curs.Cursor, f curs.Frame) curs.Cursor {
+		return edit.Display(p, c, edit.Begin, true)
+	}, func(m *model) { m.display(1, true) }},
+	{"Display(All)", func(p *page.Page, c curs.Cursor, f curs.Frame) curs.Cursor {
+		return edit.Display(p, c, edit.All, false)
+	}, func(m *model) { m.display(2, false) }},
 	{"Row(Rest)", func(p *page.Page, c curs.Cursor, f curs.Frame) curs.Cursor { return edit.Row(p, c, edit.Rest, true) }, func(m *model) { m.row(0, true) }},
 	{"Row(Begin)", func(p *page.Page, c curs.Cursor, f curs.Frame) curs.Cursor { return edit.Row(p, c, edit.Begin, false) }, func(m *model) { m.row(1, false) }},
 	{"Blank", func(p *page.Page, c curs.Cursor, f curs.Frame) curs.Cursor { return edit.Blank(p, c, 2) }, func(m *model) { m.blank(2) }},
